@@ -1,0 +1,1 @@
+"""Slantpanes: stripes laid over one another on endless floors."""

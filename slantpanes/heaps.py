@@ -1,0 +1,72 @@
+"""Part 2: heaps, and the tints in them."""
+
+from slantpanes.errors import BadCell, BadHeap, OtherBreadth
+from slantpanes.stripes import is_cell, is_stripe, lies_on
+from slantpanes.wholes import is_integer
+
+
+def is_heap(thing):
+    """Whether any value is a heap [2.1], of any length."""
+    if not isinstance(thing, tuple) or not all([is_stripe_with_tint(item) for item in thing]):
+        return False
+    stripes = [stripe for stripe, _ in thing]
+    if not all([len(stripe[1]) == len(stripes[0][1]) for stripe in stripes]):
+        return False
+    # The stripes alone ascend exactly if the pairs do and no stripe comes twice.
+    return all([before < behind for before, behind in zip(stripes, stripes[1:])])
+
+
+def is_stripe_with_tint(thing):
+    """Whether any value is a pair of a stripe and a tint."""
+    if not isinstance(thing, tuple) or len(thing) != 2:
+        return False
+    stripe, tint = thing
+    return is_stripe(stripe) and is_integer(tint) and tint != 0
+
+
+def tint_at(heap, cell):
+    """The tint of a heap at a cell."""
+    check_heap(heap)
+    if not is_cell(cell) or not has_breadth(heap, len(cell)):
+        raise BadCell(cell)
+    return tint_on(heap, cell)
+
+
+# The functions below are for values that are known to be right, unless they check them.
+
+
+def has_breadth(heap, breadth):
+    """Whether the heap is of the breadth; an empty one is of any."""
+    return all([len(stripe[1]) == breadth for stripe, _ in heap])
+
+
+def tint_on(heap, cell):
+    """The tint of the heap at the cell."""
+    return sum([tint for stripe, tint in heap if lies_on(stripe, cell)])
+
+
+def gathered(pairs):
+    """The heap of pairs of stripes and tints, the tints of equal stripes added up."""
+    tints = {}
+    for stripe, tint in pairs:
+        tints[stripe] = tints.get(stripe, 0) + tint
+    return tuple(sorted([(stripe, tint) for stripe, tint in tints.items() if tint != 0]))
+
+
+def check_heap(thing):
+    """Raise BadHeap for any value that is not a heap."""
+    if not is_heap(thing):
+        raise BadHeap(thing)
+
+
+def check_heaps(one, other):
+    """Raise the errors that are due for any two values that are not two heaps of one breadth."""
+    check_heap(one)
+    check_heap(other)
+    if one and not has_breadth(other, breadth_of_heap(one)):
+        raise OtherBreadth(other)
+
+
+def breadth_of_heap(heap):
+    """The breadth of a heap that is not empty."""
+    return len(heap[0][0][1])
