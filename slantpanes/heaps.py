@@ -32,7 +32,7 @@ def tint_at(heap, cell):
     return tint_on(heap, cell)
 
 
-# The functions below are for values that are known to be right, unless they check them.
+# The functions below are for values that are known to be right; only those called check_ take any values.
 
 
 def has_breadth(heap, breadth):
