@@ -1,7 +1,7 @@
 """Part 2: heaps, and the tints in them."""
 
 from slantpanes.errors import BadCell, BadHeap, OtherBreadth
-from slantpanes.stripes import is_cell, is_stripe, lies_on
+from slantpanes.stripes import is_cell, is_stripe, lies_on, moved_stripe, normal_form
 from slantpanes.wholes import is_integer
 
 
@@ -27,8 +27,7 @@ def is_stripe_with_tint(thing):
 def tint_at(heap, cell):
     """The tint of a heap at a cell."""
     check_heap(heap)
-    if not is_cell(cell) or not has_breadth(heap, len(cell)):
-        raise BadCell(cell)
+    check_cell(heap, cell)
     return tint_on(heap, cell)
 
 
@@ -43,6 +42,21 @@ def has_breadth(heap, breadth):
 def tint_on(heap, cell):
     """The tint of the heap at the cell."""
     return sum([tint for stripe, tint in heap if lies_on(stripe, cell)])
+
+
+def moved_pairs(pairs, step):
+    """The pairs of stripes and tints, each stripe moved by the step [3.1]."""
+    return [(moved_stripe(stripe, step), tint) for stripe, tint in pairs]
+
+
+def opposed(pairs):
+    """The pairs of stripes and tints with the opposite tints."""
+    return [(stripe, -tint) for stripe, tint in pairs]
+
+
+def normal_pairs(pairs):
+    """The heap of the pairs of stripes and tints, all stripes made normal, the tints of equal ones added up."""
+    return gathered([(normal_form(stripe), tint) for stripe, tint in pairs])
 
 
 def gathered(pairs):
@@ -65,6 +79,12 @@ def check_heaps(one, other):
     check_heap(other)
     if one and not has_breadth(other, breadth_of_heap(one)):
         raise OtherBreadth(other)
+
+
+def check_cell(heap, thing):
+    """Raise BadCell for any value that is not a cell, or a step, of the breadth of the heap."""
+    if not is_cell(thing) or not has_breadth(heap, len(thing)):
+        raise BadCell(thing)
 
 
 def breadth_of_heap(heap):

@@ -1,10 +1,10 @@
 """Part 2: looks, which are told by their plain heaps."""
 
 from slantpanes.errors import TooMany
-from slantpanes.heaps import check_heap, check_heaps, gathered, has_breadth, is_heap, tint_on
-from slantpanes.parting import parting_cell
+from slantpanes.heaps import check_heap, check_heaps, has_breadth, is_heap, opposed, tint_on
+from slantpanes.parting import cell_not_zero
 from slantpanes.plain import great_levels_in, is_plain_stripe, levels_in, plain_of
-from slantpanes.stripes import is_cell, normal_form
+from slantpanes.stripes import is_cell
 
 
 def is_plain(heap):
@@ -25,14 +25,10 @@ def plain_heap(heap, *, most=4096):
 def judge_alike(one, other):
     """A right paper for two heaps [2.5]."""
     check_heaps(one, other)
-    difference = list(one) + [(stripe, -tint) for stripe, tint in other]
-    plain = plain_of(difference)
-    if plain == ():
+    cell = cell_not_zero(list(one) + opposed(other))
+    if cell is None:
         return ("alike", plain_of(one))
-    normal = gathered([(normal_form(stripe), tint) for stripe, tint in difference])
-    # Both have the same look, and the search is the quicker the fewer stripes there are.
-    fewest = min([normal, plain], key=len)
-    return ("apart", parting_cell(fewest, great_levels_in(plain)[0]))
+    return ("apart", cell)
 
 
 def alike_holds(one, other, thing):

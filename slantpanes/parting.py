@@ -13,10 +13,20 @@ In the end all cells of the narrow floor have one tint, which is its mean and it
 
 from math import gcd, lcm
 
-from slantpanes.heaps import tint_on
-from slantpanes.plain import is_low, sister_rests
+from slantpanes.heaps import normal_pairs, tint_on
+from slantpanes.plain import great_levels_in, is_low, plain_of, sister_rests
 from slantpanes.stripes import by_period, cell_on, normal_form, stripe_told_by
 from slantpanes.wholes import PRIMES, part_at, primes_of
+
+
+def cell_not_zero(pairs):
+    """A cell at which the pairs of stripes and tints have a tint other than 0, None if there is no such cell."""
+    plain = plain_of(pairs)
+    if plain == ():
+        return None
+    # Both have the same look, and the search is the quicker the fewer stripes there are.
+    fewest = min([normal_pairs(pairs), plain], key=len)
+    return parting_cell(fewest, great_levels_in(plain)[0])
 
 
 def parting_cell(pairs, level):

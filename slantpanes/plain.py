@@ -1,7 +1,7 @@
 """Taking stripes apart into plain ones, and the levels of plain heaps."""
 
 from slantpanes.heaps import gathered
-from slantpanes.stripes import by_period, normal_form
+from slantpanes.stripes import by_period, is_stripe, normal_form
 from slantpanes.wholes import part_at, primes_of
 
 
@@ -49,6 +49,15 @@ def plain_parts(stripe):
 def plain_of(pairs):
     """The plain heap that looks like the pairs of stripes and tints, added up."""
     return gathered([(part, sign * tint) for stripe, tint in pairs for part, sign in plain_parts(stripe)])
+
+
+def is_level(thing):
+    """Whether any value is a level of some look: a pair of a period and numbers that are normal by it [2.6]."""
+    if not isinstance(thing, tuple) or len(thing) != 2:
+        return False
+    m, c = thing
+    stripe = (m, c, 0)
+    return is_stripe(stripe) and normal_form(stripe) == stripe
 
 
 def levels_in(plain):

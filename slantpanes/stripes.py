@@ -121,6 +121,17 @@ def first_place(c, p):
     return [place for place, number in enumerate(c) if number % p != 0][0]
 
 
+def moved_stripe(stripe, step):
+    """The stripe moved by the step [3.1]."""
+    m, c, r = stripe
+    return (m, c, (r + dot(c, step)) % m)
+
+
+def opposite(step):
+    """The step back."""
+    return tuple([-number for number in step])
+
+
 def cell_on(stripe):
     """A cell of numbers from 0 to m - 1 that lies on the stripe."""
     m, c, r = normal_form(stripe)
