@@ -51,8 +51,8 @@ def direction_holding(lot):
 def without_divisor(numbers, period):
     """The numbers, made greater by multiples of the period, so that only 1 and -1 divide all of them.
 
-    No prime of the period divides all of the numbers. A prime that divides all but the last one, and not the period,
-    divides one of so many sums of the last one and multiples of the period, so that a small multiple will do.
+    No prime of the period divides all of the numbers. Any other prime that divides all but the last one bars, of
+    the sums of the last one and multiples of the period, only one in as many as itself: a small multiple will do.
     """
     *before, last = numbers
     while common_divisor(last, before) != 1:

@@ -372,6 +372,9 @@ class Papers(unittest.TestCase):
         for heap in ((((2, (0, 1), 1), 1),), (((2, (0, 1), 0), 2),), (), (((2, (1,), 0), 1),), (((2, (0, 1, 0), 0), 1),),
                      (((4, (0, 1), 0), 1),), (((4, (0, 1), 0), 1), ((4, (0, 1), 2), 2)), ENDLESS):
             self.assertIs(floor_holds(floor, ("heap", heap)), False, heap)
+        self.assertIs(floor_holds(FLOOR, ("heap", least_heap(FLOOR))), False)
+        walk = (((1, (0,), 0), 1), ((2, (1,), 0), -1), ((2, (1,), 1), -1))
+        self.assertIs(floor_holds(((0, 0),), ("heap", walk)), False)
         self.assertIs(floor_holds(((0, 0),), ("heap", ())), True)
         self.assertIs(floor_holds(((0, 1),), ("heap", ())), False)
 

@@ -601,13 +601,13 @@ class Fewest(unittest.TestCase):
         heap = tuple(((7, c, 0), 1) for c in [(0, 1)] + [(1, k) for k in range(7)])
         self.assertEqual(len(self.check(heap)), 8)
 
-    def test_friends_in_a_ring(self):
-        # Each level is a friend of the next one, so that lots taken greedily are too many.
-        heap = tuple(sorted([
-            ((6, (3, 2), 0), 1), ((10, (5, 2), 0), 1), ((15, (10, 6), 0), 1), ((14, (7, 2), 0), 1), ((21, (14, 15), 0), 1),
-            ((35, (1, 0), 0), 1),
-        ]))
-        self.check(heap)
+    def test_lots_that_are_not_filled_one_after_the_other(self):
+        # Only neighbours in the order 2, 6, 15, 5 are no friends: 2 and 5, put together at once, cost a third lot.
+        row = [(2, (1, 0)), (5, (0, 1)), (6, (4, 3)), (15, (6, 10))]
+        self.assertEqual(len(self.check(tuple(((m, c, 0), 1) for m, c in row))), 2)
+        # The same with a level that is no friend of any of them.
+        row = [(7, (0, 1)), (14, (1, 0)), (35, (15, 21)), (42, (22, 21)), (105, (36, 70))]
+        self.assertEqual(len(self.check(tuple(((m, c, 0), 1) for m, c in row))), 3)
 
     def test_levels_within_others_need_no_lot(self):
         heap = (((4, (1, 2), 3), 1),)
