@@ -150,7 +150,10 @@ def are_directions(thing):
     """Whether any value is an ascending tuple of one to six directions of one breadth."""
     if not isinstance(thing, tuple) or not 1 <= len(thing) <= MOST_DIRECTIONS:
         return False
-    if not all([is_direction(item) and len(item) == len(thing[0]) for item in thing]):
+    # Only when all items are known to be directions can the first one be measured for the others.
+    if not all([is_direction(item) for item in thing]):
+        return False
+    if not all([len(item) == len(thing[0]) for item in thing]):
         return False
     return all([before < behind for before, behind in zip(thing, thing[1:])])
 

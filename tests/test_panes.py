@@ -547,12 +547,25 @@ class JudgedErrors(unittest.TestCase):
                     with self.assertRaises(BadDirections) as caught:
                         call(heap, wrong)
                     self.assertIs(caught.exception.thing, wrong)
+        self.assertEqual(judge_panes(ONE, seven[:6])[0], "panes")
+
+    def test_one_wrong_item_beside_directions(self):
+        for item in NO_DIRECTIONS + [(0, 1, 0), (1, 0, 0)]:
+            for wrong in (
+                (item, (1, 0)), ((0, 1), item), (item, (0, 1), (1, 0)), ((0, 1), item, (1, 0)), ((0, 1), (1, 0), item),
+                (item, item, (1, 0)), (item, (0, 0, 1), (1, 0)),
+            ):
+                for heap, call in itertools.product((ONE, NOTHING, ()), self.CALLS):
+                    with self.assertRaises(BadDirections) as caught:
+                        call(heap, wrong)
+                    self.assertIs(caught.exception.thing, wrong)
+
+    def test_directions_of_another_breadth(self):
         for call in self.CALLS:
             for heap, wrong in ((ONE, ((0, 0, 1),)), (ROOM, ((0, 1),)), (NOTHING, ((1, 2, 3), (3, 2, 1)))):
                 with self.assertRaises(BadDirections) as caught:
                     call(heap, wrong)
                 self.assertIs(caught.exception.thing, wrong)
-        self.assertEqual(judge_panes(ONE, seven[:6])[0], "panes")
 
 
 class Fewest(unittest.TestCase):
