@@ -1,6 +1,6 @@
 """Part 2: heaps, and the tints in them."""
 
-from slantpanes.errors import BadCell, BadHeap, OtherBreadth
+from slantpanes.errors import BadCell, BadCount, BadHeap, OtherBreadth
 from slantpanes.stripes import is_cell, is_stripe, lies_on, moved_stripe, normal_form
 from slantpanes.wholes import is_integer
 
@@ -29,6 +29,26 @@ def tint_at(heap, cell):
     check_heap(heap)
     check_cell(heap, cell)
     return tint_on(heap, cell)
+
+
+def added(one, other):
+    """The heap with the sums of the tints of each stripe of two heaps."""
+    check_heaps(one, other)
+    return gathered(one + other)
+
+
+def taken(one, other):
+    """The heap with the differences of the tints of each stripe of two heaps."""
+    check_heaps(one, other)
+    return gathered(list(one) + opposed(other))
+
+
+def times(heap, number):
+    """The heap with all tints times an integer."""
+    check_heap(heap)
+    if not is_integer(number):
+        raise BadCount(number)
+    return gathered([(stripe, tint * number) for stripe, tint in heap])
 
 
 # The functions below are for values that are known to be right; only those called check_ take any values.

@@ -34,15 +34,18 @@ def share_of_both(one, other):
     check_stripe(other)
     if len(one[1]) != len(other[1]):
         raise OtherBreadth(other)
-    m, c, r = normal_form(one)
-    n, b, s = normal_form(other)
-    common = common_part((m, c), (n, b))
-    if (s - r) % common != 0:
-        return (0, 1)
-    return lowest(common, m * n)
+    return lowest(common_share(normal_form(one), normal_form(other)), one[0] * other[0])
 
 
 # The functions below are for values that are known to be right.
+
+
+def common_share(one, other):
+    """The share of the cells that lie on two normal stripes, times both periods."""
+    m, c, r = one
+    n, b, s = other
+    common = common_part((m, c), (n, b))
+    return common if (s - r) % common == 0 else 0
 
 
 def common_part(one, other):

@@ -2,11 +2,12 @@
 
 from math import gcd
 
+from slantpanes.corners import rows_within, unit_steps
 from slantpanes.heaps import breadth_of_heap, check_cell, check_heap, moved_pairs, opposed, tint_on
 from slantpanes.parting import cell_not_zero
 from slantpanes.plain import great_levels_in, plain_of
 from slantpanes.stripes import dot, is_cell, opposite
-from slantpanes.wholes import common_multiple, divisor_with_factors
+from slantpanes.wholes import common_multiple
 
 BREADTH_OF_EMPTY = 2
 
@@ -73,38 +74,3 @@ def do_part_along(heap, cell, step):
 def telling_levels(heap):
     """The levels that tell the returns: a step that suits a level suits all levels within it, too."""
     return great_levels_in(plain_of(heap))
-
-
-def unit_steps(breadth):
-    """The corner rows of all steps."""
-    return [tuple([int(place == at) for place in range(breadth)]) for at in range(breadth)]
-
-
-def rows_within(rows, level):
-    """The corner rows of those sums of the corner rows that suit the level."""
-    found = []
-    for at in reversed(range(len(rows))):
-        found = [reduced(suited(rows[at], rows[at + 1:], level), found), *found]
-    return found
-
-
-def suited(row, behind, level):
-    """The least multiple of the row, with some of the rows behind added, that suits the level."""
-    m, c = level
-    divisor, factors = divisor_with_factors([dot(c, other) for other in behind] + [m])
-    along = dot(c, row)
-    times = divisor // gcd(divisor, along)
-    # The rows behind make all multiples of the divisor by m, and so what undoes this one.
-    undone = times * along // divisor
-    step = [times * number for number in row]
-    for other, factor in zip(behind, factors):
-        step = [number - undone * factor * more for number, more in zip(step, other)]
-    return step
-
-
-def reduced(step, rows):
-    """The step less multiples of the corner rows, which are the last ones, its numbers in their places being low."""
-    for place, row in enumerate(rows, start=len(step) - len(rows)):
-        times = step[place] // row[place]
-        step = [number - times * more for number, more in zip(step, row)]
-    return tuple(step)

@@ -37,6 +37,15 @@ def is_stripe(thing):
     return common_divisor(m, c) == 1
 
 
+def are_stripes(thing, most):
+    """Whether any value is a tuple of one or more stripes of one breadth, at most so many."""
+    if not isinstance(thing, tuple) or not 1 <= len(thing) <= most:
+        return False
+    if not all([is_stripe(item) for item in thing]):
+        return False
+    return all([len(stripe[1]) == len(thing[0][1]) for stripe in thing])
+
+
 def prime_powers(period):
     """The ascending tuple of the prime powers of a period."""
     if not is_period(period):

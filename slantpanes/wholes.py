@@ -10,6 +10,13 @@ def is_integer(thing):
     return isinstance(thing, int) and not isinstance(thing, bool)
 
 
+def is_fraction(thing):
+    """Whether any value is a fraction: a pair of integers, the second one at least 1 [0.2]."""
+    if not isinstance(thing, tuple) or len(thing) != 2 or not all([is_integer(item) for item in thing]):
+        return False
+    return thing[1] >= 1
+
+
 def primes_of(number):
     """The primes below 30 that divide an integer, ascending."""
     return [p for p in PRIMES if number % p == 0]

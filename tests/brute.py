@@ -4,6 +4,9 @@ import itertools
 import random
 from fractions import Fraction
 
+from slantpanes.errors import PaneError
+from slantpanes.yards import Yard
+
 PRIMES = (2, 3, 5, 7, 11, 13, 17, 19, 23, 29)
 
 
@@ -15,15 +18,18 @@ def deep(levels):
     return thing
 
 
+YARD = Yard.read("yard\nheap a\nstripe 2 1 0 0 3\nmean a 3 2")
+
 # Values that are no cell, no period, no stripe and no heap, unless they stand in a list below them.
 NOTHING_OF_ALL = [
     None, True, False, "", "a", "alike", "1\n2", [], {}, [1], [1, 2], {"m": 2}, {1: (2,)}, (True,), (1, True),
     (False, 0), ("1",), ((1,),), (None, None), ([1, 2],), (1, 2, 3, 4), (1, [2], 3), (1, 2, "3"), deep(12),
-    "x" * 2000, [[]] * 3000, {"a": [1, {"b": (None,)}]},
+    "x" * 2000, [[]] * 3000, {"a": [1, {"b": (None,)}]}, YARD, (YARD,), [Yard(), YARD], {"yard": YARD}, (Yard(), 1),
+    (1, YARD), (YARD, Yard(), 2),
 ]
 NO_CELLS = NOTHING_OF_ALL + [(), 5, -1, 10 ** 99, (0,) * 4, (1, 2, None), [0, 0], (10 ** 59, False)]
 NO_PERIODS = NOTHING_OF_ALL + [
-    0, -1, -6, (), (6,), [6], "6", 31, 37, 62, 2 * 10 ** 39 * 31, 1001, 2310, 2 * 23 * 29, 3 * 17 * 23, 10 ** 98 + 1,
+    0, -1, -6, (), (6,), [6], (YARD,), "6", 31, 37, 62, 2 * 10 ** 39 * 31, 1001, 2310, 2 * 23 * 29, 3 * 17 * 23, 10 ** 98 + 1,
     7 ** 20 * 11 * 13, 29 ** 27 * 31,
 ]
 NO_STRIPES = NOTHING_OF_ALL + [
@@ -32,7 +38,8 @@ NO_STRIPES = NOTHING_OF_ALL + [
     (2, (1, 2), 0), (2, (-1, 0), 0), (2, (1, 0), 2), (2, (1, 0), -1), (1, (1, 0), 0), (1, (0, 0), 1), (2, (0, 0), 0),
     (6, (2, 4), 0), (6, (0, 3), 1), (31, (1, 0), 0), (1001, (1, 0), 0), (0, (1, 0), 0), (-2, (1, 0), 0), (2, (), 0),
     (2, (1, 0, 0, 0), 0), (2, 1, 0), (2, (1, (0,)), 0), ((2,), (1, 0), 0), (2, ("1", 0), 0), ((1, 0), 2, 0),
-    (0, (0, 0), 0), (10 ** 39, (10 ** 39, 1), 0), (10 ** 39, (10, 2), 0),
+    (0, (0, 0), 0), (10 ** 39, (10 ** 39, 1), 0), (10 ** 39, (10, 2), 0), (YARD, (1, 0), 0), (2, YARD, 0),
+    (2, (YARD, 0), 0), (2, (1, 0), YARD),
 ]
 NO_HEAPS = NOTHING_OF_ALL + [
     0, 7, (2, (1, 0), 0), ((2, (1, 0), 0), 1), [((2, (1, 0), 0), 1)], ([(2, (1, 0), 0), 1],), (((2, (1, 0), 0),),),
@@ -43,6 +50,7 @@ NO_HEAPS = NOTHING_OF_ALL + [
     (((2, (1, 0), 0), 1), ((2, (1, 1, 0), 0), 1)), (((2, (1,), 0), 1), ((2, (1, 0), 0), 1)),
     (((2, (1, 0), 0), 1), [(2, (1, 1), 0), 1]), (((2, (1, 0), 0), 1), ()), (((2, (1, 0), 0), 1), None),
     (((2, (1, 0), 0), 1), ((2, (1, 1), False), 1)), (((True, (0, 0), 0), 1),), ((None, 1),), (((31, (1, 0), 0), 1),),
+    ((YARD, 1),), (((2, (1, 0), 0), YARD),), (YARD, ((2, (1, 0), 0), 1)), (((2, (1, 0), 0), 1), YARD),
 ]
 
 
@@ -263,5 +271,27 @@ def spoiled(thing):
             found.extend([thing[:k] + (other,) + thing[k + 1:] for other in spoiled(part)])
         return found
     if isinstance(thing, str):
-        return [thing + "s", thing[:-1], thing.upper(), (thing,), None, 0]
-    return [thing + 1, thing - 1, -thing, thing == 1, thing != 0, str(thing), (thing,), [thing], None]
+        return [thing + "s", thing[:-1], thing.upper(), (thing,), None, 0, YARD]
+    return [thing + 1, thing - 1, -thing, thing == 1, thing != 0, str(thing), (thing,), [thing], None, YARD]
+
+
+def raised(call, *told, **named):
+    """The name of the error of slantpanes that a call raises with its parameters, None if it raises none."""
+    try:
+        call(*told, **named)
+    except PaneError as error:
+        return (error.__class__.__name__, vars(error))
+    return None
+
+
+def same(one, other):
+    """Whether two values are equal, bools and integers being unlike."""
+    if isinstance(one, tuple) and isinstance(other, tuple):
+        return len(one) == len(other) and all(same(a, b) for a, b in zip(one, other))
+    return one.__class__ == other.__class__ and one == other
+
+
+def told_fraction(thing):
+    """A fraction in lowest terms, as this package returns it."""
+    right = isinstance(thing, tuple) and len(thing) == 2 and all(is_whole(number) for number in thing) and thing[1] >= 1
+    return right and Fraction(*thing).denominator == thing[1]
