@@ -110,7 +110,7 @@ class Yard:
         self.given = given
 
     def judged(self, promise):
-        """Whether a promise is kept, given or not: a pair of one word if it is, and otherwise a fault."""
+        """The tuple of the word kept if a promise, given or not, is kept, and otherwise a right fault."""
         if not is_promise(self.heaps, promise):
             raise BadPromise(promise)
         fault = fault_of(self.heaps, promise)
