@@ -106,7 +106,8 @@ def choices_of(stripe, p):
 def differed(numbers, k, place, signs):
     """The difference, so many times over as k tells in the place, of the numbers along the place."""
     before, behind = k[:place], k[place + 1:]
-    return sum([sign * numbers[(*before, j, *behind)] for j, sign in enumerate(signs)])
+    cells = [(*before, j, *behind) for j in range(len(signs))]
+    return sum([sign * numbers[cell] for cell, sign in zip(cells, signs)])
 
 
 def box(breadth, side):
